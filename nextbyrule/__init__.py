@@ -1,0 +1,1 @@
+"""Nextbyrule: rows of numbers by rules."""
