@@ -36,6 +36,11 @@ WORDS_WITHIN = ["dataclass", "overload", "contextmanager"]
 
 UNUSED = """register mro elements open input version_info with_traceback add_note format format_map""".split()
 
+WALKERS = "list tuple dict sorted sum any all enumerate zip min max".split()
+
+KEYWORDS = {"sorted": ["key", "reverse"], "min": ["key", "default"], "max": ["key", "default"], "sum": ["start"],
+            "enumerate": ["start"], "zip": ["strict"]}
+
 UNDERSCORED = ["__init__", "__eq__", "__repr__", "__str__", "__len__"]
 
 
@@ -156,6 +161,33 @@ class FormTest(unittest.TestCase):
                 if name not in UNDERSCORED:
                     self.assertRegex(name, r"^[A-Za-z][A-Za-z0-9_]*$", path.name)
                     self.assertNotIn(name, dir(builtins) + UNUSED, path.name)
+
+    def test_locals_are_not_called_like_what_stands_at_the_top(self):  # L15
+        for path in FILES:
+            top = top_names(path) + [part.name for part in walked(path, ast.alias)]
+            for place in walked(path, ast.FunctionDef):
+                names = [node.arg for node in ast.walk(place) if isinstance(node, ast.arg)]
+                names += [node.id for node in ast.walk(place) if isinstance(node, ast.Name)
+                          and isinstance(node.ctx, ast.Store)]
+                self.assertEqual(set(names) & set(top), set(), (path.name, place.name))
+
+    def test_walked_at_once(self):  # L23
+        walks = ["zip", "enumerate", "reversed", "range", "items", "keys", "values"]
+        for path in FILES:
+            tree = ast.parse(path.read_text())
+            free = [node.iter for node in ast.walk(tree) if isinstance(node, (ast.For, ast.comprehension))]
+            for node in ast.walk(tree):
+                if isinstance(node, ast.Call) and ast.unparse(node.func) in WALKERS:
+                    free += node.args[:1]
+            for node in ast.walk(tree):
+                if isinstance(node, ast.Call) and ast.unparse(node.func).split(".")[-1] in walks:
+                    self.assertIn(node, free, f"{path.name}:{node.lineno}")
+
+    def test_keywords(self):  # L22
+        for place, node in each(ast.Call):
+            for keyword in node.keywords:
+                allowed = KEYWORDS.get(ast.unparse(node.func), [])
+                self.assertIn(keyword.arg, allowed, place)
 
     def test_names_read(self):  # L8
         for path in FILES:

@@ -2,39 +2,9 @@ import copy
 import random
 import unittest
 
-from helper import NO_WHOLE_NUMBERS, PRIMES, assert_refused
+from helper import BYS, FIBONACCI, NO_WHOLE_NUMBERS, PRIMES, assert_refused, some_row, some_rows, step_by_step
 from nextbyrule.errors import TooFar
 from nextbyrule.rows import is_row, places, window
-
-FIBONACCI = (0, (1, 1), (0, 1))
-BYS = [0, 2, 3, 7, 101, 997]
-
-
-def some_row(chance, by, length, great=10 ** 6):
-    """A row by chance; by a prime of its rests, by 0 of numbers of either sign."""
-    low = -great if by == 0 else 0
-    high = great if by == 0 else by - 1
-    rule = tuple(chance.randint(low, high) for turn in range(length))
-    starts = tuple(chance.randint(low, high) for turn in range(length))
-    return (by, rule, starts)
-
-
-def some_rows():
-    chance = random.Random(5)
-    return [some_row(chance, by, length) for by in BYS for length in range(13)]
-
-
-def step_by_step(row, count):
-    """The places by the words of the document, with nothing of the program in it."""
-    by, rule, starts = row
-    found = {}
-    for n in range(count):
-        if n < len(starts):
-            found[n] = starts[n]
-        else:
-            total = sum(factor * found[n - 1 - k] for k, factor in enumerate(rule))
-            found[n] = total % by if by else total
-    return [found[n] for n in range(count)]
 
 
 class IsRowTest(unittest.TestCase):
