@@ -70,7 +70,7 @@ def rule_of(by, poly):
     return tuple([taken(by, 0 - poly[length - 1 - k]) for k in range(length)])
 
 
-def kept_sum(by, poly, found, n):
+def sum_at(by, poly, found, n):
     return taken(by, sum([poly[k] * found[n + k] for k in range(len(poly))]))
 
 
@@ -79,4 +79,4 @@ def keeps(row, poly):
     by = row[0]
     length = len(row[1])
     found = first_places(row, length + len(poly))
-    return all([kept_sum(by, poly, found, n) == 0 for n in range(length)])
+    return all([sum_at(by, poly, found, n) == 0 for n in range(length)])

@@ -1,6 +1,6 @@
 """Rows: tuples (by, rule, starts), and what they have at their first places."""
 
-from nextbyrule.errors import TooFar
+from nextbyrule.errors import NoBy, TooFar
 from nextbyrule.numbers import is_by, is_number, taken
 
 LONGEST = 12
@@ -23,6 +23,12 @@ def is_row(thing):
     if not is_by(by) or not are_numbers(by, rule) or not are_numbers(by, starts):
         return False
     return len(rule) == len(starts)
+
+
+def shared_by(one, other):
+    if one[0] != other[0]:
+        raise NoBy("the two rows are of unlike bys")
+    return one[0]
 
 
 def next_place(by, rule, before):

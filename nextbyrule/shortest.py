@@ -1,9 +1,9 @@
 """The shortest row of a row, and the table of a row's places."""
 
 from nextbyrule.numbers import taken
-from nextbyrule.polys import divided, greatest, of_rule, rule_of, trimmed
+from nextbyrule.polys import divided, of_rule, rule_of, trimmed
 from nextbyrule.rows import first_places
-from nextbyrule.wholes import whole_greatest
+from nextbyrule.wholes import shared_divisor
 
 
 def top_of(row, poly):
@@ -23,8 +23,7 @@ def least_of(row):
     by = row[0]
     poly = of_rule(by, row[1])
     top = top_of(row, poly)
-    shared = whole_greatest(poly, top) if by == 0 else greatest(by, poly, top)
-    return divided(by, poly, shared)[0]
+    return divided(by, poly, shared_divisor(by, poly, top))[0]
 
 
 def shortest(row):

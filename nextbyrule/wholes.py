@@ -39,17 +39,27 @@ def joined(modulus, number, prime, rest):
 
 def whole_greatest(one, other):
     # The one is monic, so what is sought has whole numbers. By no prime it gets shorter, and by all but some few it
-    # stays as long as it is: a shorter one found puts the longer ones aside. One that divides both ends the search.
+    # stays as long as it is: a shorter one found puts the longer ones aside. One that divides both ends the search;
+    # as long numbers divide slowly, one is tried when it is new or when one more prime has left it as it was.
     told = one
     modulus = 1
     prime = BELOW_THE_PRIMES
-    while not divides(told, one) or not divides(told, other):
+    ripe = True
+    while not ripe or not divides(told, one) or not divides(told, other):
         prime = prime_above(prime)
         seen = greatest(prime, taken_poly(prime, one), taken_poly(prime, other))
         if len(seen) < len(told):
             told = tuple([nearest(prime, rest) for rest in seen])
             modulus = prime
+            ripe = True
         elif len(seen) == len(told):
-            told = tuple([joined(modulus, told[k], prime, seen[k]) for k in range(len(seen))])
+            before = told
+            told = tuple([joined(modulus, before[k], prime, seen[k]) for k in range(len(seen))])
             modulus = modulus * prime
+            ripe = told == before
     return told
+
+
+def shared_divisor(by, one, other):
+    # The greatest monic polynomial that divides both, by whatever by; the one is monic.
+    return whole_greatest(one, other) if by == 0 else greatest(by, one, other)

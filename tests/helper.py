@@ -1,8 +1,10 @@
 """What several test files need."""
 
+import itertools
 import random
 
 from nextbyrule import errors
+from nextbyrule.tables import determinant
 
 REFUSALS = [
     errors.NoNumber, errors.NoBy, errors.NoText, errors.TooFar,
@@ -47,6 +49,12 @@ def some_rows():
     return [some_row(chance, by, length) for by in BYS for length in range(13)]
 
 
+def small_rows(by, lengths):
+    """All rows by a prime of these lengths."""
+    return [(by, rule, starts) for length in lengths for rule in itertools.product(range(by), repeat=length)
+            for starts in itertools.product(range(by), repeat=length)]
+
+
 def rest(by, number):
     return number % by if by else number
 
@@ -74,3 +82,37 @@ def product(by, one, other):
 
 def some_monic(chance, by, degree, great=10 ** 3):
     return tuple(some_numbers(chance, by, degree, great) + [1])
+
+
+def poly_of(row):
+    return tuple(rest(row[0], -number) for number in reversed(row[1])) + (1,)
+
+
+def rule_of_poly(by, poly):
+    return tuple(rest(by, -number) for number in reversed(poly[:-1]))
+
+
+def lengthened(row, factor):
+    """The row's places by a longer rule, whose polynomial is that of the row's rule times the factor."""
+    by = row[0]
+    rule = rule_of_poly(by, product(by, poly_of(row), factor))
+    return (by, rule, tuple(step_by_step(row, len(rule))))
+
+
+def is_shortest(row):
+    """Told by the table of the row's own length: its determinant, reckoned apart from what is tested, isn't 0."""
+    by, length = row[0], len(row[1])
+    found = step_by_step(row, 2 * length)
+    table = [found[i:i + length] for i in range(length)]
+    # What isn't 0 by a prime isn't 0, and numbers of many figures are sooner done by a prime.
+    if by == 0 and determinant(1000003, [[number % 1000003 for number in line] for line in table]) != 0:
+        return True
+    return determinant(by, table) != 0
+
+
+def shortest_by_chance(chance, by, length, great=20):
+    """A row whose rule is as short as it can be."""
+    row = some_row(chance, by, length, great)
+    while not is_shortest(row):
+        row = some_row(chance, by, length, great)
+    return row

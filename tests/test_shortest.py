@@ -3,29 +3,13 @@ import itertools
 import random
 import unittest
 
-from helper import BYS, FIBONACCI, PRIMES, product, rest, some_monic, some_numbers, some_row, some_rows, step_by_step
+from helper import (
+    BYS, FIBONACCI, PRIMES, is_shortest, lengthened, product, rest, some_monic, some_numbers, some_row, some_rows,
+    step_by_step,
+)
 from nextbyrule.rows import is_row
 from nextbyrule.shortest import shortest, table_of
 from nextbyrule.tables import determinant
-
-
-def poly_of(row):
-    return tuple(rest(row[0], -number) for number in reversed(row[1])) + (1,)
-
-
-def lengthened(row, factor):
-    """The row's places by a longer rule, whose polynomial is that of the row's rule times the factor."""
-    by = row[0]
-    longer = product(by, poly_of(row), factor)
-    rule = tuple(rest(by, -number) for number in reversed(longer[:-1]))
-    return (by, rule, tuple(step_by_step(row, len(rule))))
-
-
-def is_shortest(row):
-    """Told by the table of the row's own length: its determinant, reckoned apart from what is tested, isn't 0."""
-    by, length = row[0], len(row[1])
-    found = step_by_step(row, 2 * length)
-    return determinant(by, [found[i:i + length] for i in range(length)]) != 0
 
 
 class ShortestTest(unittest.TestCase):

@@ -1,8 +1,9 @@
+import math
 import random
 import unittest
 
-from helper import product, some_monic, some_numbers
-from nextbyrule.wholes import joined, nearest, prime_above, whole_greatest
+from helper import BYS, product, rest, some_monic, some_numbers
+from nextbyrule.wholes import joined, nearest, prime_above, shared_divisor, whole_greatest
 
 
 class WholeGreatestTest(unittest.TestCase):
@@ -48,6 +49,29 @@ class WholeGreatestTest(unittest.TestCase):
                 for near in [-1, 0, 1]:
                     shared = (signed + near, 1)
                     self.assertEqual(whole_greatest(product(0, shared, (1, 1)), product(0, shared, (3, 2))), shared)
+
+
+    def test_numbers_that_some_primes_leave_as_they_were(self):
+        # By each of the first primes the number looks like 5.
+        primes = [1000003, 1000033, 1000037, 1000039]
+        for count in range(len(primes) + 1):
+            number = 5 + math.prod(primes[:count])
+            for signed in [number, -number]:
+                shared = (signed, 1, 1)
+                one, other = product(0, shared, (1, 1)), product(0, shared, (3, 2))
+                self.assertEqual(whole_greatest(one, other), shared)
+
+    def test_by_whatever_by(self):
+        chance = random.Random(58)
+        for by in BYS:
+            for degree in range(6):
+                shared = some_monic(chance, by, degree)
+                one = some_monic(chance, by, 4)
+                other = (rest(by, one[0] + 1),) + one[1:]
+                told = shared_divisor(by, product(by, shared, one), product(by, shared, other))
+                self.assertEqual(told, shared)
+                self.assertEqual(shared_divisor(by, shared, ()), shared)
+                self.assertEqual(shared_divisor(by, shared, (1,)), (1,))
 
 
 class JoinedTest(unittest.TestCase):
