@@ -16,6 +16,11 @@ def refuse_long(length):
         raise TooLong("rows put together are told up to the length 12")
 
 
+def refuse_far_steps(start, step):
+    if start < 0 or start > FARTHEST_START or step < 1 or step > WIDEST_STEP:
+        raise TooFar("a start is from 0 to 100, a step from 1 to 10")
+
+
 def told_row(by, rule, starts):
     rule_taken = tuple([taken(by, number) for number in rule])
     starts_taken = tuple([taken(by, number) for number in starts])
@@ -90,8 +95,7 @@ def summed(row):
 
 def every(row, start, step):
     # It is kept by the polynomial whose roots are the powers, as high as the step, of the roots of the row's own.
-    if start < 0 or start > FARTHEST_START or step < 1 or step > WIDEST_STEP:
-        raise TooFar("a start is from 0 to 100, a step from 1 to 10")
+    refuse_far_steps(start, step)
     least = shortest(row)
     length = len(least[1])
     sums = power_sums(least[1], step * length)

@@ -31,6 +31,11 @@ def shared_by(one, other):
     return one[0]
 
 
+def refuse_prime(row):
+    if row[0] != 0:
+        raise NoBy("this is told of rows by 0 alone")
+
+
 def next_place(by, rule, before):
     total = 0
     for k in range(len(rule)):

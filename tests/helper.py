@@ -116,3 +116,8 @@ def shortest_by_chance(chance, by, length, great=20):
     while not is_shortest(row):
         row = some_row(chance, by, length, great)
     return row
+
+
+def form_at(parts, n):
+    """What the parts of a closed form give at n: the bottom times what its row has there."""
+    return sum(root ** n * sum(top * n ** j for j, top in enumerate(tops)) for root, tops in parts)
